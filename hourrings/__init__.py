@@ -1,0 +1,1 @@
+"""hourrings: clocks that nobody sees, told by their differences."""
