@@ -1,6 +1,6 @@
 """Books as data: names, lines, lists of lines, books, and numbers of names."""
 
-from hourrings.errors import InvalidBook, InvalidLine, InvalidName, InvalidNames, InvalidNumbers
+from hourrings.errors import InvalidBook, InvalidLine, InvalidName, InvalidNames, InvalidNumbers, Unlike
 from hourrings.kinds import check_count, check_kind, check_number, has_factor, is_ascending, is_count, is_kind
 from hourrings.kinds import is_number, minus, plus, rest_by
 
@@ -100,6 +100,14 @@ def check_names(names):
         raise InvalidNames(names)
 
 
+def check_all_unknowns(book, names):
+    """Refuses what is no list of all unknowns of a book, each once, in any order."""
+    if not isinstance(names, list) or not all([is_name(name) for name in names]):
+        raise InvalidNames(names)
+    if sorted(names) != names_in(book[1]):
+        raise InvalidNames(names)
+
+
 def check_line(kind, line):
     if not line_fits(kind, line):
         raise InvalidLine(line)
@@ -108,6 +116,13 @@ def check_line(kind, line):
 def check_book(book):
     if not is_book(book):
         raise InvalidBook(book)
+
+
+def check_two_books(one, other):
+    check_book(one)
+    check_book(other)
+    if one[0] != other[0]:
+        raise Unlike(other)
 
 
 def check_numbers(kind, numbers, names):

@@ -2,7 +2,7 @@
 
 from hourrings.books import check_book, check_line, check_two_names, lines_unkept, names_in, numbers_of
 from hourrings.errors import AtOdds
-from hourrings.kinds import has_factor, minus, plus, rest_by
+from hourrings.kinds import common_multiple, has_factor, minus, plus, rest_by
 from hourrings.rests import NOTHING, join, meet, meet_all, rests_agree, turn
 
 
@@ -49,6 +49,19 @@ def closed_table(kind, lines):
     return table
 
 
+def table_with(kind, table, line):
+    """The closed table of the lines of another one and of a line more, None if these are at odds."""
+    one, other = line[:2]
+    names = sorted({name for pair in list(table) + [(one, other)] for name in pair})
+    grown = {(low, high): table.get((low, high), NOTHING) for low in names for high in names if low != high}
+    # The new line can be at odds with the closed line of its own names alone, and each way takes it once.
+    if not tell_pair(kind, grown, one, other, line[2:]):
+        return None
+    for mid in (one, other):
+        tell_through(kind, grown, names, mid)
+    return grown
+
+
 def kept_table(book):
     """The closed table of a book that can be kept."""
     table = closed_table(book[0], book[1])
@@ -76,31 +89,49 @@ def is_kept_together(kind, lines):
     return True
 
 
-def given_numbers(kind, names, table):
-    """Numbers of names, given one by one, that keep all rests of a closed table."""
-    numbers = []
+def rest_told(kind, table, numbers, name):
+    """The rest that numbers of others tell of a name by a closed table, None if no number keeps all of it."""
+    told = []
+    for other, number in numbers:
+        ahead, by = table.get((other, name), NOTHING)
+        told.append((rest_by(kind, plus(kind, number, ahead), by), by))
+    return meet_all(kind, told)
+
+
+def given_on(kind, names, table, numbers):
+    """Told numbers, and those of the other names, given one by one, that keep all rests of a closed table."""
+    told = dict(numbers)
+    given = list(numbers)
     for name in names:
-        told = []
-        for other, number in numbers:
-            ahead, by = table[(other, name)]
-            told.append((rest_by(kind, plus(kind, number, ahead), by), by))
-        numbers.append((name, meet_all(kind, told)[0]))
-    return numbers
+        if name not in told:
+            given.append((name, rest_told(kind, table, given, name)[0]))
+    return sorted(given)
 
 
 def numbers_keeping(kind, lines, names):
     """Numbers of some names, all those of the lines among them, that keep the lines; None if there are none."""
-    # Lines that say nothing make each name one of the table.
-    more = [(names[at - 1], names[at], 0, 1) for at in range(1, len(names))]
-    table = closed_table(kind, lines + more)
+    table = closed_table(kind, lines)
     if table is None:
         return None
-    return given_numbers(kind, names, table)
+    return given_on(kind, names, table, [])
+
+
+def share_of(kind, table, others, name):
+    """The multiple of the `by` of the closed rests from some others to a name, 1 if there are none."""
+    share = 1
+    for other in others:
+        share = common_multiple(kind, share, table.get((other, name), NOTHING)[1])
+    return share
 
 
 def line_follows(kind, line, told):
     """Whether a line follows from the closed rest of its two names."""
     return has_factor(kind, told[1], line[3]) and has_factor(kind, minus(kind, told[0], line[2]), line[3])
+
+
+def not_following(kind, table, lines):
+    """The numbers, ascending, of those lines that do not follow from a closed table."""
+    return [at for at, line in enumerate(lines) if not line_follows(kind, line, table.get(line[:2], NOTHING))]
 
 
 def news_of_line(kind, line, told):
@@ -124,16 +155,10 @@ def closed_with(book, line):
     check_book(book)
     kind, lines = book
     check_line(kind, line)
-    known = kept_table(book)
-    one, other = line[:2]
-    names = names_in(lines + [line])
-    table = {(low, high): known.get((low, high), NOTHING) for low in names for high in names if low != high}
-    # The new line can be at odds with the closed line of its own names alone, and each way takes it once.
-    if not tell_pair(kind, table, one, other, line[2:]):
+    table = table_with(kind, kept_table(book), line)
+    if table is None:
         return None
-    for mid in (one, other):
-        tell_through(kind, table, names, mid)
-    return lines_of_table(table, names)
+    return lines_of_table(table, names_in(lines + [line]))
 
 
 def follows(book, line):

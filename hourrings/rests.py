@@ -71,6 +71,16 @@ def meet_all(kind, rests):
     return met
 
 
+def numbered_count(kind, told, number):
+    """The count that keeps a rest and has so many such counts less than it; by 0 it is the only one."""
+    ahead, by = told
+    if kind == "hours" or by == 0:
+        return ahead + by * number
+    # The bits above the rest can be any: the words are as their upper bits are, in order.
+    upper = number << (by.bit_length() - 1)
+    return upper ^ rest_by(kind, upper, by) ^ ahead
+
+
 def agree(kind, one, other):
     check_two_rests(kind, one, other)
     return rests_agree(kind, one, other)
@@ -126,14 +136,7 @@ def kept_numbered(kind, rests, number):
     met = meet_all(kind, rests)
     if met is None or met[1] == 0 and (met[0] < 0 or number > 0):
         return None
-    ahead, by = met
-    if by == 0:
-        return ahead
-    if kind == "hours":
-        return ahead + by * number
-    # The bits above the rest can be any: the words are as their upper bits are, in order.
-    upper = number << (by.bit_length() - 1)
-    return upper ^ rest_by(kind, upper, by) ^ ahead
+    return numbered_count(kind, met, number)
 
 
 def turned_line(kind, line):

@@ -78,6 +78,12 @@ def steps_divisor(kind, lines, steps):
     return by
 
 
+def line_of_way(kind, lines, way):
+    names = trail(lines, way)
+    by = steps_divisor(kind, lines, way)
+    return names[0], names[-1], rest_by(kind, steps_sum(kind, lines, way), by), by
+
+
 def off_by(kind, lines, ring):
     """By how much a ring in its told form is broken, 0 if it is not."""
     return rest_by(kind, steps_sum(kind, lines, ring), steps_divisor(kind, lines, ring))
@@ -187,9 +193,7 @@ def way_line(book, way):
     kind, lines = book
     if not way_fits(lines, way):
         raise InvalidWay(way)
-    names = trail(lines, way)
-    by = steps_divisor(kind, lines, way)
-    return names[0], names[-1], rest_by(kind, steps_sum(kind, lines, way), by), by
+    return line_of_way(kind, lines, way)
 
 
 def can_be_kept(book):

@@ -7,32 +7,16 @@ import time
 import unittest
 
 from hourrings.closed import are_two_rows, closed, closed_line, closed_with, follows, news_of, two_rows
-from hourrings.errors import AtOdds, InvalidBook, InvalidLine, InvalidName
+from hourrings.errors import AtOdds, InvalidLine, InvalidName
 from hourrings.rings import can_be_kept, way_line
 from tests.test_rings import is_tried_way, rows_of_steps
-from tests.trying import (KINDS, SPANS, THINGS, WRONG_BOOKS, WRONG_LINES, WRONG_NAMES, check_fresh, check_refusals,
+from tests.trying import (BOOKS, KINDS, ODD, SPANS, THINGS, WRONG_LINES, WRONG_NAMES, check_fresh, check_refusals,
                           difference, drawn_book, drawn_line, gcd_of, goes_into, great_book, great_names, great_number,
-                          keeps_line, lcm_of, line_of, names_of, rest_of, sum_of, told_book, tried, tried_line)
+                          keeps_line, lcm_of, line_of, names_of, rest_of, sum_of, told_book, tried, tried_books,
+                          tried_closed, tried_line)
 
 THREE = ("hours", [("a", "b", 3, 12), ("b", "c", 5, 18), ("a", "c", 0, 4)])
-ODD = {"hours": ("hours", [("a", "b", 3, 12), ("b", "c", 5, 18), ("a", "c", 1, 4)]),
-       "bits": ("bits", [("a", "b", 1, 6), ("b", "c", 2, 10), ("a", "c", 0, 2)])}
-BOOKS = [(InvalidBook, WRONG_BOOKS)]
 BYS = {"hours": [0, 1, 2, 3, 4, 6, 12, 24], "bits": [0, 1, 2, 3, 4, 5, 6, 10, 12, 24]}
-
-
-def tried_books(seed, many, most=5):
-    """Drawn books that can be kept, with all rows of a span that keep them; exact lines are among them."""
-    rng = random.Random(seed)
-    for kind in KINDS:
-        for _ in range(many):
-            book = told_book(rng, kind, ["a", "b", "c"], most)
-            yield rng, book, tried(kind, book[1], names_of(book[1]), SPANS[kind])
-
-
-def tried_closed(kind, lines, rows):
-    found = [tried_line(kind, rows, one, other) for one, other in itertools.combinations(names_of(lines), 2)]
-    return [line for line in found if line[3] != 1]
 
 
 class Closed(unittest.TestCase):

@@ -8,17 +8,16 @@ from unittest import mock
 
 from hourrings import rings
 from hourrings.books import keeps
-from hourrings.errors import InvalidBook, InvalidRing, InvalidWay, TooMany
+from hourrings.errors import InvalidRing, InvalidWay, TooMany
 from hourrings.rings import (all_rings, broken_rings, can_be_kept, is_broken, is_ring, is_way, ring_divisor, ring_off,
                              ring_sum, told_ring, way_line)
-from tests.trying import (KINDS, SPANS, THINGS, WRONG_BOOKS, check_fresh, check_refusals, drawn_book, forms,
-                          great_book, great_names, great_number, is_off, is_tried_ring, line_of, names_of, rest_of,
-                          steps_ends, sum_and_divisor, told_book, tried, tried_rings)
+from tests.trying import (BOOKS, KINDS, SPANS, THINGS, check_fresh, check_refusals, drawn_book, forms, great_book,
+                          great_names, great_number, is_off, is_tried_ring, line_of, names_of, rest_of, steps_ends,
+                          sum_and_divisor, told_book, tried, tried_rings)
 
 BOOK = ("hours", [("a", "b", 7, 12), ("b", "c", 3, 8), ("a", "c", 1, 6), ("b", "c", 5, 6)])
 WORDS = ("bits", [("a", "b", 1, 6), ("b", "c", 2, 10), ("c", "a", 0, 4), ("c", "d", 3, 0), ("d", "c", 1, 7)])
 RING = [(0, 1), (1, 1), (2, -1)]
-BOOKS = [(InvalidBook, WRONG_BOOKS)]
 NO_STEPS = [None, True, 0, "", (), ("a", 1), (0,), (0, 1, 1), [0, 1], (0, 2), (0, 0), (0, -2), (4, 1), (-1, 1),
             (True, 1), (0, True), (False, 1), ("0", 1), (0, "1"), (0, None), ((0, 1),), [(0, 1)], (0, [1])]
 NO_LISTS = [None, True, 0, "", (), {}, [], {0: 1}, tuple(RING), [RING], (RING,), "ring", InvalidRing(RING)]

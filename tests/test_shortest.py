@@ -8,10 +8,10 @@ from hourrings.errors import InvalidBook, InvalidLines, InvalidNumber, InvalidRi
 from hourrings.rings import all_rings, broken_rings, can_be_kept, is_broken, is_ring, ring_off
 from hourrings.shortest import (cores, is_core, is_shortest_broken, mended, quiet_lines, ring_of, saving_lines,
                                 shortest_broken)
-from tests.test_rings import BOOK, BOOKS, NO_RINGS, RING, side_by_side
-from tests.trying import (KINDS, SPANS, THINGS, WRONG_BOOKS, check_fresh, check_refusals, difference, drawn_book,
-                          forms, gcd_of, great_book, great_names, is_off, line_of, lots, names_of, sum_of, times,
-                          tried, tried_rings)
+from tests.test_rings import BOOK, NO_RINGS, RING, side_by_side
+from tests.trying import (BOOKS, KINDS, SPANS, THINGS, WRONG_BOOKS, check_fresh, check_refusals, difference,
+                          drawn_book, forms, gcd_of, great_book, great_names, is_off, line_of, lots, names_of, sum_of,
+                          times, tried, tried_rings)
 
 BOTH = ("hours", BOOK[1] + [("c", "d", 0, 4)])
 NO_LOTS = [None, True, 0, "", "01", (), (0, 1), {}, {0: 1}, [1, 0], [0, 0], [-1], [-1, 0], [4], [0, 4], [0, True],

@@ -3,6 +3,7 @@
 import copy
 import itertools
 import math
+import random
 
 from hourrings import errors
 
@@ -140,6 +141,20 @@ def told_book(rng, kind, names, most):
     return (kind, lines)
 
 
+def tried_books(seed, many, most=5):
+    """Drawn books that can be kept, with all rows of a span that keep them; exact lines are among them."""
+    rng = random.Random(seed)
+    for kind in KINDS:
+        for _ in range(many):
+            book = told_book(rng, kind, ["a", "b", "c"], most)
+            yield rng, book, tried(kind, book[1], names_of(book[1]), SPANS[kind])
+
+
+def tried_closed(kind, lines, rows):
+    found = [tried_line(kind, rows, one, other) for one, other in itertools.combinations(names_of(lines), 2)]
+    return [line for line in found if line[3] != 1]
+
+
 def great_names(many):
     return [letter * 6 + "999" for letter in "abcdefghijklmnopqrstuvwxyz"[:many]]
 
@@ -217,6 +232,11 @@ def lots(many):
     return [list(lot) for size in range(many + 1) for lot in itertools.combinations(range(many), size)]
 
 
+# Books that no numbers keep.
+ODD = {"hours": ("hours", [("a", "b", 3, 12), ("b", "c", 5, 18), ("a", "c", 1, 4)]),
+       "bits": ("bits", [("a", "b", 1, 6), ("b", "c", 2, 10), ("a", "c", 0, 2)])}
+
+
 # Refusals.
 
 def check_refusals(test, function, parameters):
@@ -243,6 +263,28 @@ def check_refused(test, function, error, field, names, values):
         test.assertIs(caught.exception.value, field, (function, values))
         # Errors of the package are equal to themselves alone, so their copies are told by their texts.
         test.assertEqual(repr(values), repr(ahead))
+
+
+def check_at_odds(test, function, parameters, field=None):
+    """AtOdds is told with the book at odds, or the field, behind all wrong values of other parameters.
+
+    The parameters are as for check_refusals, but their good values are such that the call is at odds.
+    """
+    names = [name for name, _, _ in parameters]
+    goods = [good for _, good, _ in parameters]
+    ahead = copy.deepcopy(goods)
+    for call in (lambda: function(*goods), lambda: function(**dict(zip(names, goods)))):
+        with test.assertRaises(errors.AtOdds, msg=(function, goods)) as caught:
+            call()
+        if field is None:
+            test.assertIs(caught.exception.value, goods[0])
+        else:
+            test.assertEqual(caught.exception.value, field)
+    test.assertEqual(goods, ahead)
+    for at, (_, _, refusals) in enumerate(parameters):
+        for error, wrongs in refusals:
+            for wrong in wrongs:
+                check_refused(test, function, error, wrong, names, goods[:at] + [wrong] + goods[at + 1:])
 
 
 # Returned values.
@@ -299,6 +341,7 @@ WRONG_BOOKS = [None, True, 0, "", "hours", (), [], ("hours",), ("hours", [], [])
                ("hours", RIGHT), ("hours", [[RIGHT]]), ("hours", (RIGHT,)), ("bits", [("a", "b", -7, 0)]),
                ("bits", [("a", "b", 4, 5)]), ("hours", [RIGHT, ("a", "b", 3, 2)]), (["hours"], []), {"hours": []}]
 WRONG_BOOKS += [("hours", [RIGHT, line]) for line in WRONG_LINES["hours"]]
+BOOKS = [(errors.InvalidBook, WRONG_BOOKS)]
 NO_NUMBERS_OF = [None, True, 0, "", "ab", (), {"a": 1}, (("a", 1), ("b", 2)), [("b", 1), ("a", 2)],
                  [("a", 1), ("a", 2)], [["a", 1], ["b", 2]], [("a", 1, 1), ("b", 2)], [("a",), ("b", 2)],
                  [("a", True), ("b", 2)], [("a", 1), ("b", None)], [("a", "1"), ("b", 2)], [("A", 1), ("b", 2)],
