@@ -22,8 +22,8 @@ ORDERS = [None, True, 0, "", "abc", (), ("a", "b", "c"), {}, {"a": 1, "b": 2, "c
           ["a", "b", "c", "c"], ["a", "b", "b"], ["a", "b", "d"], ["a", "b", "c", "d"], ["a", "b", None], ["a", "b", 3],
           ["a", "b", ["c"]], ["a", "b", ("c",)], ["A", "b", "c"], ["a", "b", True], [("a", 1), ("b", 2), ("c", 3)]]
 NUMBER_ORDERS = [None, True, 0, "", "012", (), (0, 1, 2), {}, {0: 1, 1: 1, 2: 1}, [], [0, 1], [0, 1, 1], [0, 1, 2, 3],
-                 [1, 2, 3], [0, 1, -1], [0, True, 2], [False, 1, 2], [0, 1, "2"], [0, 1, None], [0, 1, [2]], [[0, 1, 2]],
-                 [0, 1, InvalidNumber(2)]]
+                 [1, 2, 3], [0, 1, -1], [0, True, 2], [False, 1, 2], [0, 1, "2"], [0, 1, None], [0, 1, [2]],
+                 [[0, 1, 2]], [0, 1, InvalidNumber(2)]]
 
 
 def rows_of(book, names):
@@ -391,7 +391,8 @@ class UnlikeNumbers(unittest.TestCase):
                 for _ in range(12):
                     one, other = rng.sample(names, 2)
                     number = difference(kind, dict(answer)[other], dict(answer)[one])
-                    lines.append((one, other, sum_of(kind, number, great_number(rng, kind)) if not shared else number, 0))
+                    number = number if shared else sum_of(kind, number, great_number(rng, kind))
+                    lines.append((one, other, number, 0))
                 other = unlike_numbers(book, lines)
                 self.assertIs(other is None, any(follows(book, line) for line in lines))
                 self.assertIs(are_unlike_numbers(book, lines, other), other is not None)

@@ -28,6 +28,29 @@ INTERFACE = {
         ring_of(book,lot) quiet_lines(book) saving_lines(book) mended(book,ring,number)""",
     "closed": """closed(book) closed_line(book,one,other) closed_with(book,line) follows(book,line)
         news_of(book,line) two_rows(book,line) are_two_rows(book,line,value)""",
+    "follows": """are_equal(one,other) parting_line(one,other) needless(book) least_books(book) shares(book,order)
+        weight(book) worth(book,line) worths(book,order) unlike_numbers(book,lines)
+        are_unlike_numbers(book,lines,value)""",
+    "papers": """is_paper(book,value) told_lines(book,paper) paper_for(book,line) is_paper_for(book,line,value)
+        odds_paper(book) is_odds_paper(book,value) ring_of_odds(book,value) never_paper(book,line)
+        is_never_paper(book,line,value) used_lines(book,paper) trimmed(book,paper) put_through(book,papers,paper)""",
+    "plain": """plain_odds(book) barring_way(book,line)""",
+    "given": """first_numbers(book) goes_on(book,numbers) first_denied(book,numbers) first_with(book,numbers)
+        rest_given(book,numbers,name)""",
+    "rows": """least_period(book) keeps_row(book,period,value) how_many_rows(book,period)
+        choices_left(book,period,names) row_numbered(book,period,number) number_of_row(book,period,row)
+        all_rows(book,period) how_many_with(book,period,numbers) next_row(book,period,row)""",
+    "engine": """told_all(kind,lines) same_answers(one,other) new_lines(one,other) is_log(kind,value) replayed(kind,log)
+        plain_log(kind,log)""",
+    "forgetting": """told_of(book,names) forgotten(book,names) shared_unknowns(one,other) news(one,other)
+        is_silent(one,other)""",
+    "middles": """is_middle(one,other,value) strongest_middle(one,other) least_middle(one,other)
+        is_least_middle(one,other,value) ring_middle(one,other,ring) carried(books) can_be_kept_along(books)
+        is_carrying(books,value)""",
+}
+METHODS = {
+    ("engine", "Engine"): """__init__(self,kind) kind(self) tell(self,line) push(self) pop(self) lines(self) marks(self)
+        strongest(self,one,other) judged(self,line) parts(self) log(self) copy(self) __eq__(self,other)""",
 }
 # What each rule refuses, each by one file.
 WRONG = {
@@ -109,14 +132,22 @@ class Language(unittest.TestCase):
 
 
 class Interface(unittest.TestCase):
+    def check(self, told, tree, where):
+        found = {node.name: [arg.arg for arg in node.args.args] for node in tree.body
+                 if isinstance(node, ast.FunctionDef) and not node.args.defaults}
+        for item in told.split():
+            name, _, names = item.rstrip(")").partition("(")
+            self.assertEqual(found.get(name), names.split(","), (where, name))
+
     def test_functions(self):
         for module, told in INTERFACE.items():
+            self.check(told, ast.parse(read(module + ".py")), module)
+
+    def test_methods(self):
+        for (module, name), told in METHODS.items():
             tree = ast.parse(read(module + ".py"))
-            found = {node.name: [arg.arg for arg in node.args.args] for node in tree.body
-                     if isinstance(node, ast.FunctionDef) and not node.args.defaults}
-            for item in told.split():
-                name, _, names = item.rstrip(")").partition("(")
-                self.assertEqual(found.get(name), names.split(","), (module, name))
+            classes = {node.name: node for node in tree.body if isinstance(node, ast.ClassDef)}
+            self.check(told, classes[name], name)
 
 
 if __name__ == "__main__":
