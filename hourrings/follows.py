@@ -48,10 +48,9 @@ def rigid_lists(names, table):
     """The lists of names that exact rests of a closed table join, each name in one, the first one in order."""
     found = []
     for name in names:
-        for rigid in found:
-            if table.get((rigid[0], name), NOTHING)[1] == 0:
-                rigid.append(name)
-                break
+        fitting = [rigid for rigid in found if table.get((rigid[0], name), NOTHING)[1] == 0]
+        if fitting:
+            fitting[0].append(name)
         else:
             found.append([name])
     return found

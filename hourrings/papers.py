@@ -94,8 +94,9 @@ def leaned_on(paper, number):
 
 def numbered_anew(entry, places):
     """An entry, with the new places of those that it names."""
-    many = len(elders_of(entry))
-    return (entry[0], *[places[elder] for elder in entry[1:1 + many]], *entry[1 + many:])
+    elders = elders_of(entry)
+    named = [places[elder] for elder in elders]
+    return entry[0], *named, *entry[1 + len(elders):]
 
 
 def trimmed_to(paper, number):

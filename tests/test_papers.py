@@ -242,6 +242,21 @@ class PaperFor(unittest.TestCase):
                     for line in closed(book):
                         self.check(book, line)
 
+    def test_numbers_that_divide_in_one_kind_alone(self):
+        rng = random.Random(86)
+        for kind in KINDS:
+            for _ in range(80):
+                told = {name: rng.randrange(60) for name in "abcd"}
+                lines = []
+                for _ in range(rng.randint(2, 8)):
+                    one, other = rng.sample("abcd", 2)
+                    number = difference(kind, told[other], told[one])
+                    lines.append(line_of(kind, one, other, number, rng.choice([3, 5, 10, 15, 17, 25, 34, 51, 7, 0])))
+                book = (kind, lines)
+                for line in closed(book):
+                    for by in (line[3], 3, 5, 10, 15, 17):
+                        self.check(book, line_of(kind, line[1], line[0], difference(kind, 0, line[2]), by))
+
     def test_edges(self):
         for kind in KINDS:
             self.assertEqual(paper_for((kind, []), ("x", "a", 0, 1)), [("nothing", "x", "a")])
