@@ -5,6 +5,8 @@ from math import gcd
 from hourrings.errors import InvalidKind, InvalidNumber
 
 KINDS = ("hours", "bits")
+# So much longer than what divides it is a word that is folded before it is gone through bit by bit.
+LONG = 1000
 
 
 def is_kind(value):
@@ -80,10 +82,29 @@ def split_by(kind, one, by):
     return quotient, one
 
 
+def folded(one, by):
+    """A word with the same rest by a far shorter one, not much longer than this."""
+    size = 1
+    power = split_by("bits", 2, by)[1]
+    powers = [(size, power)]
+    while 2 * size < one.bit_length():
+        size = 2 * size
+        # A word times itself has each of its bits twice as far up.
+        power = split_by("bits", int(f"{power:b}", 4), by)[1]
+        powers.append((size, power))
+    for size, power in reversed(powers):
+        if size > by.bit_length():
+            upper = one >> size
+            one = one ^ (upper << size) ^ times("bits", upper, power)
+    return one
+
+
 def rest_by(kind, one, by):
     """The rest by a count: the number itself by 0."""
     if by == 0:
         return one
+    if kind == "bits" and one.bit_length() > LONG + 8 * by.bit_length():
+        one = folded(one, by)
     return split_by(kind, one, by)[1]
 
 

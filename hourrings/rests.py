@@ -54,8 +54,12 @@ def meet(kind, one, other):
         return one if has_factor(kind, apart, other[1]) else None
     if has_factor(kind, other[1], one[1]):
         return other if has_factor(kind, apart, one[1]) else None
-    count, _, missing, factor, _ = divisor_with_factors(kind, one[1], other[1])
-    many, left = split_by(kind, apart, count)
+    if one[1] < other[1]:
+        return meet(kind, other, one)
+    # The greater one is most often far greater: beside it, nothing is reckoned with but rests of the other one.
+    left_over = rest_by(kind, one[1], other[1])
+    count, _, missing, factor, _ = divisor_with_factors(kind, left_over, other[1])
+    many, left = split_by(kind, rest_by(kind, apart, other[1]), count)
     if left != 0:
         return None
     many = rest_by(kind, times(kind, many, factor), missing)

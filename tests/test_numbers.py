@@ -9,8 +9,8 @@ from hourrings.errors import InvalidKind, InvalidNumber
 from hourrings.kinds import KINDS
 from hourrings.numbers import (added, divisor, divisor_paper, is_divisor_paper, is_multiple, less, multiple, product,
                                quotient, rest)
-from tests.trying import (NO_COUNTS, NO_NUMBERS, THINGS, WRONG_KINDS, WRONG_NUMBERS, bits_times, check_fresh,
-                          check_refusals, gcd_of, goes_into, sum_of, times)
+from tests.trying import (NO_COUNTS, NO_NUMBERS, THINGS, WRONG_KINDS, WRONG_NUMBERS, bits_rest, bits_times,
+                          check_fresh, check_refusals, gcd_of, goes_into, sum_of, times)
 
 TWO = [added, less, product, divisor, multiple, divisor_paper]
 SMALL = {"hours": range(-13, 14), "bits": range(32)}
@@ -95,6 +95,16 @@ class Rests(unittest.TestCase):
             self.assertEqual(rest("hours", number, 0), number)
         for number in (0, 7, 10 ** 30 - 1):
             self.assertEqual(rest("bits", number, 0), number)
+
+    def test_words_far_longer_than_what_divides_them(self):
+        rng = random.Random(8)
+        for long in (900, 1003, 1100, 2048, 5000):
+            for size in (1, 2, 3, 8, 40, 120, 600):
+                by = rng.getrandbits(size) | 1 << size - 1
+                for one in (rng.getrandbits(long) | 1 << long, 1 << long, bits_times(by, rng.getrandbits(long))):
+                    self.assertEqual(rest("bits", one, by), bits_rest(one, by))
+                    self.assertIs(is_multiple("bits", one, by), bits_rest(one, by) == 0)
+                    self.assertEqual(divisor("bits", one, by), divisor("bits", by, bits_rest(one, by)))
 
     def test_is_multiple(self):
         for one, by in itertools.product(range(-30, 31), range(-9, 10)):

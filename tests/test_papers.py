@@ -200,6 +200,21 @@ class Judged(unittest.TestCase):
             self.assertEqual(told_lines(book, whole)[-1][3], 3)
             self.assertLess(time.time() - begun, 5)
 
+    def test_long_numbers(self):
+        """An exact line, told less by thousands of numbers that are met again, tells ever longer numbers."""
+        rng = random.Random(87)
+        for kind in KINDS:
+            book = (kind, [("a", "b", great_number(rng, kind), 0)])
+            bys = [great_number(rng, kind) for _ in range(2499)]
+            paper = [("told", 0)] + [("less", 0, by) for by in bys]
+            paper += [("met", len(paper) - 1, 1)] + [("met", len(paper) + at, at + 2) for at in range(2499 - 2)]
+            begun = time.time()
+            one, other, ahead, by = told_lines(book, paper)[-1]
+            self.assertEqual((one, other, ahead), book[1][0][:3])
+            self.assertTrue(all(goes_into(kind, some, by) for some in bys[:3]))
+            self.assertGreater(by.bit_length(), 2499 * 25)
+            self.assertLess(time.time() - begun, 20)
+
     def test_refused(self):
         check_refusals(self, is_paper, [("book", BOOK, BOOKS), ("value", None, [])])
         for function in (told_lines, used_lines, trimmed):
