@@ -106,6 +106,12 @@ class Rests(unittest.TestCase):
                     self.assertIs(is_multiple("bits", one, by), bits_rest(one, by) == 0)
                     self.assertEqual(divisor("bits", one, by), divisor("bits", by, bits_rest(one, by)))
 
+    def test_long_hours(self):
+        for one in (10 ** 400 + 7, -10 ** 500 + 3, 2 ** 5000, 13 ** 900):
+            for by in (1, 2, 3, 13, 10 ** 29 + 1, 7 ** 200):
+                self.assertEqual(rest("hours", one, by), one % by)
+                self.assertIs(is_multiple("hours", one, by), one % by == 0)
+
     def test_is_multiple(self):
         for one, by in itertools.product(range(-30, 31), range(-9, 10)):
             self.assertIs(is_multiple("hours", one, by), any(by * n == one for n in range(-31, 32)))
