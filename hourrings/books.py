@@ -1,6 +1,7 @@
 """Books as data: names, lines, lists of lines, books, and numbers of names."""
 
-from hourrings.errors import InvalidBook, InvalidLine, InvalidName, InvalidNames, InvalidNumbers, Unlike
+from hourrings.errors import InvalidBook, InvalidLine, InvalidName, InvalidNames, InvalidNumber, InvalidNumbers
+from hourrings.errors import Unlike
 from hourrings.kinds import check_count, check_kind, check_number, has_factor, is_ascending, is_count, is_kind
 from hourrings.kinds import is_number, minus, plus, rest_by
 
@@ -108,6 +109,14 @@ def check_all_unknowns(book, names):
         raise InvalidNames(names)
 
 
+def check_order(lines, order):
+    """Refuses what is no list of the numbers of all lines, each once, in any order."""
+    if not isinstance(order, list) or not all([is_count(number) for number in order]):
+        raise InvalidNumber(order)
+    if sorted(order) != list(range(len(lines))):
+        raise InvalidNumber(order)
+
+
 def check_line(kind, line):
     if not line_fits(kind, line):
         raise InvalidLine(line)
@@ -137,6 +146,16 @@ def check_numbers(kind, numbers, names):
 def names_in(lines):
     """The names in some lines, in order."""
     return sorted({name for line in lines for name in line[:2]})
+
+
+def joined_names(names, lines):
+    """The lists of names, in order, that lines lead to one another: each name stands in one of them."""
+    parts = [[name] for name in names]
+    for line in lines:
+        joined = [part for part in parts if line[0] in part or line[1] in part]
+        parts = [part for part in parts if part not in joined]
+        parts.append(sorted([name for part in joined for name in part]))
+    return sorted(parts)
 
 
 def line_kept(kind, line, told):

@@ -27,14 +27,32 @@ def tell_through(kind, table, names, mid):
     return True
 
 
+def blank_table(names):
+    """The table in which nothing is told of any two names."""
+    return {(one, other): NOTHING for one in names for other in names if one != other}
+
+
+def told_beside(kind, table, lines):
+    """A table with what further lines tell of their two names by themselves, None if this does not agree with it."""
+    grown = {pair: table[pair] for pair in table}
+    for one, other, ahead, by in lines:
+        if not tell_pair(kind, grown, one, other, (ahead, by)):
+            return None
+    return grown
+
+
 def told_table(kind, lines):
     """What the lines tell of each two names by themselves, None if two of the lines do not agree."""
-    names = names_in(lines)
-    table = {(one, other): NOTHING for one in names for other in names if one != other}
-    for one, other, ahead, by in lines:
-        if not tell_pair(kind, table, one, other, (ahead, by)):
+    return told_beside(kind, blank_table(names_in(lines)), lines)
+
+
+def closed_among(kind, table, names):
+    """The closed rests of what a table of told lines tells among names alone, None if this is at odds."""
+    among = {(one, other): table[(one, other)] for one in names for other in names if one != other}
+    for mid in names:
+        if not tell_through(kind, among, names, mid):
             return None
-    return table
+    return among
 
 
 def closed_table(kind, lines):
@@ -42,11 +60,7 @@ def closed_table(kind, lines):
     table = told_table(kind, lines)
     if table is None:
         return None
-    names = names_in(lines)
-    for mid in names:
-        if not tell_through(kind, table, names, mid):
-            return None
-    return table
+    return closed_among(kind, table, names_in(lines))
 
 
 def table_with(kind, table, line):
@@ -76,17 +90,23 @@ def lines_of_table(table, names):
     return [(one, other, *table[(one, other)]) for one, other in pairs if table[(one, other)][1] != 1]
 
 
+def gone_through(kind, table, names):
+    """What a table of told lines tells through names, one after another; None if no numbers keep all of it.
+
+    Of the last two names it is what their closed line tells.
+    """
+    through = {pair: table[pair] for pair in table}
+    # A name that was gone through is not needed any more: so each further one has fewer pairs about it.
+    for at, mid in enumerate(names):
+        if not tell_through(kind, through, names[at:], mid):
+            return None
+    return through
+
+
 def is_kept_together(kind, lines):
     """Whether some numbers keep all lines."""
     table = told_table(kind, lines)
-    if table is None:
-        return False
-    names = names_in(lines)
-    # A name that was gone through is not needed any more: so each further one has fewer pairs about it.
-    for at, mid in enumerate(names):
-        if not tell_through(kind, table, names[at:], mid):
-            return False
-    return True
+    return table is not None and gone_through(kind, table, names_in(lines)) is not None
 
 
 def rest_told(kind, table, numbers, name):

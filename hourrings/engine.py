@@ -1,22 +1,11 @@
 """An engine: lines are told one by one, those that can be kept together are kept, and taken back up to marks."""
 
-from hourrings.books import check_line, check_two_names, line_fits, lines_fit, names_in
-from hourrings.closed import lines_of_table, news_of_line, not_following, table_with
+from hourrings.books import check_line, check_two_names, joined_names, line_fits, lines_fit, names_in
+from hourrings.closed import lines_of_table, news_of_line, not_following, table_with, told_table
 from hourrings.errors import InvalidBook, InvalidDeed, InvalidLines, NothingToUndo, Unlike
 from hourrings.kinds import check_kind
 from hourrings.plain import ring_refused
 from hourrings.rests import NOTHING
-
-
-def parts_of(lines):
-    """The lists of names that lines, none of them by 1, lead to one another, in order."""
-    parts = [[name] for name in names_in(lines)]
-    for one, other, _, by in lines:
-        if by != 1:
-            joined = [part for part in parts if one in part or other in part]
-            names = sorted([name for part in joined for name in part])
-            parts = [part for part in parts if part not in joined] + [names]
-    return sorted(parts)
 
 
 class Engine:
@@ -60,7 +49,8 @@ class Engine:
         check_line(self.of_kind, line)
         if self.keep(line):
             return None
-        return ring_refused(self.of_kind, self.kept, line, self.rest_between(line[0], line[1]))
+        table = told_table(self.of_kind, self.kept)
+        return ring_refused(self.of_kind, self.kept, table, line, self.rest_between(line[0], line[1]))
 
     def push(self):
         self.deeds.append(("push",))
@@ -91,7 +81,7 @@ class Engine:
         return news_of_line(self.of_kind, line, self.rest_between(line[0], line[1]))
 
     def parts(self):
-        return parts_of(self.kept)
+        return joined_names(names_in(self.kept), [line for line in self.kept if line[3] != 1])
 
     def log(self):
         return list(self.deeds)

@@ -2,12 +2,12 @@
 
 from itertools import combinations
 
-from hourrings.books import check_all_unknowns, check_book, check_line, check_two_books, line_kept, lines_fit
-from hourrings.books import lines_unkept, names_in, numbers_of
+from hourrings.books import check_all_unknowns, check_book, check_line, check_order, check_two_books, line_kept
+from hourrings.books import lines_fit, lines_unkept, names_in, numbers_of
 from hourrings.closed import closed_table, kept_table, line_follows, lines_of_table, news_of_line, not_following
 from hourrings.closed import rest_told, share_of, table_with
-from hourrings.errors import InvalidLines, InvalidNumber
-from hourrings.kinds import common_multiple, is_whole, plus, split_by, times
+from hourrings.errors import InvalidLines
+from hourrings.kinds import common_multiple, plus, split_by, times
 from hourrings.rests import NOTHING
 
 
@@ -147,10 +147,7 @@ def worth(book, line):
 def worths(book, order):
     check_book(book)
     kind, lines = book
-    if not isinstance(order, list) or not all([is_whole(at) for at in order]):
-        raise InvalidNumber(order)
-    if sorted(order) != list(range(len(lines))):
-        raise InvalidNumber(order)
+    check_order(lines, order)
     kept_table(book)
     table = {}
     found = []

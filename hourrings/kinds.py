@@ -82,15 +82,25 @@ def split_by(kind, one, by):
     return quotient, one
 
 
+def word_rest(one, by):
+    """The rest of a word by a word above 0, bit by bit."""
+    size = by.bit_length()
+    shift = one.bit_length() - size
+    while shift >= 0:
+        one = one ^ (by << shift)
+        shift = one.bit_length() - size
+    return one
+
+
 def folded(one, by):
     """A word with the same rest by a far shorter one, not much longer than this."""
     size = 1
-    power = split_by("bits", 2, by)[1]
+    power = word_rest(2, by)
     powers = [(size, power)]
     while 2 * size < one.bit_length():
         size = 2 * size
         # A word times itself has each of its bits twice as far up.
-        power = split_by("bits", int(f"{power:b}", 4), by)[1]
+        power = word_rest(int(f"{power:b}", 4), by)
         powers.append((size, power))
     for size, power in reversed(powers):
         if size > by.bit_length():
@@ -103,9 +113,11 @@ def rest_by(kind, one, by):
     """The rest by a count: the number itself by 0."""
     if by == 0:
         return one
-    if kind == "bits" and one.bit_length() > LONG + 8 * by.bit_length():
+    if kind == "hours":
+        return one % by
+    if one.bit_length() > LONG + 8 * by.bit_length():
         one = folded(one, by)
-    return split_by(kind, one, by)[1]
+    return word_rest(one, by)
 
 
 def has_factor(kind, one, by):
@@ -116,8 +128,18 @@ def has_factor(kind, one, by):
 def common_divisor(kind, one, other):
     if kind == "hours":
         return gcd(one, other)
-    while other > 0:
+    if one < other:
+        one, other = other, one
+    if other > 0:
         one, other = other, rest_by(kind, one, other)
+    while other > 0:
+        # This is the rest by the other one: written out here, as a divisor takes very many of them.
+        size = other.bit_length()
+        shift = one.bit_length() - size
+        while shift >= 0:
+            one = one ^ (other << shift)
+            shift = one.bit_length() - size
+        one, other = other, one
     return one
 
 
@@ -128,14 +150,34 @@ def common_multiple(kind, one, other):
     return abs(times(kind, one, times_it))
 
 
+def hours_factor(one, other):
+    """A divisor of two numbers, perhaps below 0, and a factor with which the one comes to it up to the other one."""
+    x, next_x = 1, 0
+    while other != 0:
+        factor, left = divmod(one, other)
+        one, other = other, left
+        x, next_x = next_x, x - next_x * factor
+    return one, x
+
+
+def word_factor(one, other):
+    """The divisor of two words, and a factor with which the one comes to it up to multiples of the other one."""
+    x, next_x = 1, 0
+    while other > 0:
+        size = other.bit_length()
+        shift = one.bit_length() - size
+        while shift >= 0:
+            one = one ^ (other << shift)
+            x = x ^ (next_x << shift)
+            shift = one.bit_length() - size
+        one, other = other, one
+        x, next_x = next_x, x
+    return one, x
+
+
 def divisor_with_factors(kind, one, other):
     """The tuple (count, p, q, x, y) that tells the divisor of two numbers by its factors."""
-    count, x = one, 1
-    following, next_x = other, 0
-    while following != 0:
-        factor, left = split_by(kind, count, following)
-        count, following = following, left
-        x, next_x = next_x, minus(kind, x, times(kind, next_x, factor))
+    count, x = hours_factor(one, other) if kind == "hours" else word_factor(one, other)
     if count < 0:
         count, x = -count, -x
     if count == 0:

@@ -1,7 +1,7 @@
 """A no is one way: papers against a book, and ways that bar a line."""
 
-from hourrings.books import check_book, check_line
-from hourrings.closed import closed_table, kept_table, table_with
+from hourrings.books import check_book, check_line, names_in
+from hourrings.closed import closed_among, kept_table, table_with, told_table
 from hourrings.kinds import common_divisor, has_factor, minus
 from hourrings.rests import NOTHING, rests_agree
 from hourrings.rings import steps_from, told_form
@@ -23,26 +23,39 @@ def step_off(kind, table, steps, goal, by, off):
     return None
 
 
-def steps_barring(kind, lines, line, told):
-    """A way of lines that can be kept with which a line does not agree, as their closed rest does not."""
+def steps_barring(kind, lines, table, line, told):
+    """A way of lines that can be kept with which a line does not agree, as their closed rest does not.
+
+    The table tells what these lines tell of their two names by themselves.
+    """
     here, goal, ahead, by = line
     off = minus(kind, told[0], ahead)
     begins = steps_from(lines)
-    walked = {}
+    names = names_in(lines)
     way = []
     while here != goal:
-        walked[here] = True
-        left = [item for item in lines if item[0] not in walked and item[1] not in walked]
-        steps = [(*step, lines[step[0]][3]) for step in begins[here] if step[2] not in walked]
-        number, forth, here, step_by = step_off(kind, closed_table(kind, left), steps, goal, by, off)
+        names = [name for name in names if name != here]
+        steps = [(*step, lines[step[0]][3]) for step in begins[here] if step[2] in names]
+        beyond = closed_among(kind, table, names)
+        number, forth, here, step_by = step_off(kind, beyond, steps, goal, by, off)
         by = common_divisor(kind, by, step_by)
         way.append((number, forth))
     return way
 
 
-def ring_refused(kind, lines, line, told):
+def ring_refused(kind, lines, table, line, told):
     """A broken ring, in its told form, of lines that can be kept and of one behind them, which can't be kept beside."""
-    return told_form(steps_barring(kind, lines, line, told) + [(len(lines), -1)])
+    return told_form(steps_barring(kind, lines, table, line, told) + [(len(lines), -1)])
+
+
+def told_on(kind, table, lines):
+    """How many of some lines, one after another, can be kept beside a closed table, and the closed table with these."""
+    for number, line in enumerate(lines):
+        grown = table_with(kind, table, line)
+        if grown is None:
+            return number, table
+        table = grown
+    return len(lines), table
 
 
 def first_refused(kind, lines):
@@ -50,13 +63,10 @@ def first_refused(kind, lines):
 
     None if all lines can be kept together.
     """
-    table = {}
-    for number, line in enumerate(lines):
-        grown = table_with(kind, table, line)
-        if grown is None:
-            return number, table[line[:2]]
-        table = grown
-    return None
+    number, table = told_on(kind, {}, lines)
+    if number == len(lines):
+        return None
+    return number, table[lines[number][:2]]
 
 
 def way_entries(way):
@@ -79,14 +89,16 @@ def odds_of(kind, lines):
     if refused is None:
         return None
     number, told = refused
-    paper = way_entries(steps_barring(kind, lines[:number], lines[number], told))
+    ahead = lines[:number]
+    paper = way_entries(steps_barring(kind, ahead, told_table(kind, ahead), lines[number], told))
     return paper + [("told", number)], len(paper) - 1, len(paper)
 
 
 def ring_at_odds(kind, lines):
     """A broken ring, in its told form, of lines that are at odds."""
     number, told = first_refused(kind, lines)
-    return ring_refused(kind, lines[:number], lines[number], told)
+    ahead = lines[:number]
+    return ring_refused(kind, ahead, told_table(kind, ahead), lines[number], told)
 
 
 def barring_of(kind, lines, table, line):
@@ -94,7 +106,7 @@ def barring_of(kind, lines, table, line):
     told = table.get(line[:2], NOTHING)
     if rests_agree(kind, told, line[2:]):
         return None
-    return steps_barring(kind, lines, line, told)
+    return steps_barring(kind, lines, told_table(kind, lines), line, told)
 
 
 def plain_odds(book):

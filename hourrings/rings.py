@@ -124,33 +124,43 @@ def leads_back(steps, least, goal, here, walked):
     return False
 
 
-def walk_on(steps, goal, here, walked, path, found):
+def walk_on(steps, goal, here, walked, path, found, most):
     """Adds to what is found each ring, in order, that goes on from a path: one more than the most, then no more."""
     least = path[0][0]
     for number, way, there in steps[here]:
-        if number <= least or len(found) > MOST_RINGS:
+        if number <= least or len(found) > most:
             continue
         going = path + [(number, way)]
         if there == goal:
             found.append(going)
         elif there not in walked and leads_back(steps, least, goal, there, walked):
-            walk_on(steps, goal, there, {**walked, there: True}, going, found)
+            walk_on(steps, goal, there, {**walked, there: True}, going, found, most)
 
 
-def rings_of(lines):
-    """All rings in their told forms, in order; TooMany if there are more than the most."""
+def first_rings(lines, most):
+    """The rings in their told forms, in order, one more than the most of them at most."""
     steps = steps_from(lines)
     found = []
     for number, line in enumerate(lines):
         one, other = line[:2]
-        walk_on(steps, other, one, {one: True}, [(number, -1)], found)
-        if len(found) > MOST_RINGS:
-            raise TooMany(MOST_RINGS + 1)
+        walk_on(steps, other, one, {one: True}, [(number, -1)], found, most)
     return found
 
 
+def rings_of(lines):
+    """All rings in their told forms, in order; TooMany if there are more than the most."""
+    found = first_rings(lines, MOST_RINGS)
+    if len(found) > MOST_RINGS:
+        raise TooMany(MOST_RINGS + 1)
+    return found
+
+
+def broken_among(kind, lines, rings):
+    return [ring for ring in rings if ring_is_broken(kind, lines, ring)]
+
+
 def broken_of(kind, lines):
-    return [ring for ring in rings_of(lines) if ring_is_broken(kind, lines, ring)]
+    return broken_among(kind, lines, rings_of(lines))
 
 
 def is_way(book, value):

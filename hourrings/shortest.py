@@ -76,16 +76,22 @@ def level_ring_of(kind, lines, by, most):
     return told_form([(numbers[at], way) for at, way in ring])
 
 
-def shortest_of(kind, lines):
-    """A broken ring with the fewest lines, in its told form, None if none is broken."""
+def shortest_by_level(kind, lines):
+    """The least divisor by which a ring with the fewest lines is broken, and such a ring; None if none is broken."""
     best = None
     most = len(names_in(lines))
     for by in divisors_of_lines(kind, lines):
         ring = level_ring_of(kind, lines, by, most)
         if ring is not None:
-            best = ring
+            best = (by, ring)
             most = len(ring) - 1
     return best
+
+
+def shortest_of(kind, lines):
+    """A broken ring with the fewest lines, in its told form, None if none is broken."""
+    best = shortest_by_level(kind, lines)
+    return None if best is None else best[1]
 
 
 def lot_fits(lines, value):

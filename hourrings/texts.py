@@ -59,6 +59,16 @@ def bad_line(text):
     return None
 
 
+def book_text(kind, lines):
+    return "".join([piece + "\n" for piece in [kind] + [line_text(kind, line) for line in lines]])
+
+
+def book_in_text(text):
+    """The book whose text this is."""
+    kind, *pieces = text.split("\n")[:-1]
+    return kind, [line_in_text(kind, piece) for piece in pieces]
+
+
 def text_of_line(kind, line):
     check_kind(kind)
     check_line(kind, line)
@@ -77,15 +87,13 @@ def line_of_text(kind, text):
 
 def text_of_book(book):
     check_book(book)
-    kind, lines = book
-    return "".join([piece + "\n" for piece in [kind] + [line_text(kind, line) for line in lines]])
+    return book_text(book[0], book[1])
 
 
 def book_of_text(text):
     if not isinstance(text, str) or bad_line(text) is not None:
         raise InvalidText(text)
-    kind, *pieces = text.split("\n")[:-1]
-    return kind, [line_in_text(kind, piece) for piece in pieces]
+    return book_in_text(text)
 
 
 def wrong_at(text):

@@ -33,7 +33,7 @@ class Examples(unittest.TestCase):
                 # True is equal to 1, but is written in another way.
                 self.assertEqual(repr(found), repr(told), text)
                 answers += 1
-        self.assertEqual(answers, 51)
+        self.assertEqual(answers, 72)
 
 
 if __name__ == "__main__":

@@ -47,10 +47,32 @@ INTERFACE = {
     "middles": """is_middle(one,other,value) strongest_middle(one,other) least_middle(one,other)
         is_least_middle(one,other,value) ring_middle(one,other,ring) carried(books) can_be_kept_along(books)
         is_carrying(books,value)""",
+    "choices": """are_choices(kind,value) picked(book,choices,picks) first_picks(book,choices)
+        how_many_picks(book,choices) all_picks(book,choices) barred_lots(book,choices) is_barred(book,choices,value)
+        not_line(kind,line) unlike_by(kind,names,by) follows_all(book,choices,line)
+        common_line(book,choices,one,other)""",
+    "trees": """is_tree(book,choices,value) tree_of_no(book,choices) leaves(book,choices,tree)
+        needed_choices(book,choices,tree)""",
+    "parts": """is_giving(book,value) is_part(book,value) is_least_giving(book,value) is_greatest_part(book,value)
+        least_givings(book) greatest_parts(book) crossing(lots) fewest_giving(book) how_many_fewest(book)
+        staying(book,number) never_given(book) part_by(book,order) order_for(book,part)
+        lightest_giving(book,weights) is_lightest(book,weights,value)""",
+    "strikes": """striking(things,hour) together(things) apart(things) next_together(things,hour)
+        how_often(things,low,high) how_many_strike(things,low,high) greatest_lots(things)
+        strikes_from(things,hour,many) shifts(things,number) fewest_put_off(things)""",
+    "bells": """can_strike(book,bells) hour_line(book,bells,name) must_strike(book,bells) may_miss(book,bells)
+        missing(book,bells)""",
+    "levels": """divisors_of(book) level(book,d) joined_at(book,d) hung(book,d) is_hung(book,d,value)
+        first_bad_level(book) level_ring(book,d) shortest_by_levels(book) levels_joining(book,one,other)
+        told_by_levels(book,one,other)""",
+    "torn": """good_part(text) joined_books(one,other)""",
+    "live": """is_deed(live,value)""",
 }
 METHODS = {
     ("engine", "Engine"): """__init__(self,kind) kind(self) tell(self,line) push(self) pop(self) lines(self) marks(self)
         strongest(self,one,other) judged(self,line) parts(self) log(self) copy(self) __eq__(self,other)""",
+    ("live", "LiveBook"): """__init__(self,kind) kind(self) layers(self) book(self) told(self) do(self,deed) undo(self)
+        redo(self) log(self) copy(self) can(self) ring(self) first(self) lets(self,line) __eq__(self,other)""",
 }
 # What each rule refuses, each by one file.
 WRONG = {
