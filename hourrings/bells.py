@@ -1,6 +1,6 @@
 """Bells: strikes at hours that are told by unknowns, where all can or must be at the same hour."""
 
-from hourrings.books import check_book, is_name, names_in
+from hourrings.books import check_book, names_in
 from hourrings.closed import closed_table, given_on, is_kept_together, kept_table, line_follows, numbers_without
 from hourrings.errors import InvalidBook, InvalidName, InvalidThings
 from hourrings.kinds import common_divisor
@@ -14,7 +14,7 @@ HOUR = ""
 def bell_fits(names, value):
     if not isinstance(value, tuple) or len(value) != 3:
         return False
-    return is_name(value[0]) and value[0] in names and thing_fits(value[1:])
+    return value[0] in names and thing_fits(value[1:])
 
 
 def check_bells(book, bells):
@@ -64,7 +64,7 @@ def can_strike(book, bells):
 def hour_line(book, bells, name):
     check_bells(book, bells)
     lines = book[1]
-    if not is_name(name) or name not in names_in(lines):
+    if name not in names_in(lines):
         raise InvalidName(name)
     table = closed_table(HOURS, lines_with_hour(lines, bells))
     return None if table is None else table.get((name, HOUR), NOTHING)

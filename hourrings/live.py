@@ -49,13 +49,13 @@ def layers_with(kind, layers, word, told):
 
 def layers_behind(kind, layers, deed):
     """The layers behind a deed, the limits left aside; None if it is no deed or there is nothing that it can take."""
-    if not isinstance(deed, tuple) or not 1 <= len(deed) <= 2 or not isinstance(deed[0], str):
+    if not isinstance(deed, tuple):
         return None
     if len(deed) == 2:
         return layers_with(kind, layers, deed[0], deed[1])
-    if deed[0] == "push":
+    if deed == ("push",):
         return layers + [[]]
-    return layers[:-1] if deed[0] == "pop" and len(layers) > 1 else None
+    return layers[:-1] if deed == ("pop",) and len(layers) > 1 else None
 
 
 def are_within(layers):

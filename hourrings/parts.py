@@ -34,7 +34,7 @@ def cross_on(rows, left, free, alone):
 
 
 def crossed(lots):
-    """All least lists, in order, that have an item in common with each of some lists."""
+    """All least ascending lists, in order, that have an item in common with each of some lists."""
     # Short lists leave few items: so they come first.
     left = sorted([(len(lot), lot) for lot in lots])
     rows = {}
@@ -48,7 +48,7 @@ def givings_of(kind, lines):
     """All least givings up, in order."""
     # Each ring takes a lot of lines of its own: so there are no more rings than lots.
     rings = broken_among(kind, lines, first_rings(lines, 1 << len(lines)))
-    return crossed([sorted([number for number, _ in ring]) for ring in rings])
+    return crossed([[number for number, _ in ring] for ring in rings])
 
 
 def fewest_of(lots):

@@ -15,7 +15,7 @@ def leaf_fits(kind, lines, value):
 
 def tree_fits(kind, lines, choices, left, value):
     """Whether a value is a right tree behind lines, with forks on choices that are left alone."""
-    if not isinstance(value, tuple) or len(value) < 2 or not isinstance(value[0], str):
+    if not isinstance(value, tuple) or len(value) < 2:
         return False
     if value[0] == "ring":
         return len(value) == 2 and leaf_fits(kind, lines, value[1])

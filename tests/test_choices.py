@@ -174,7 +174,7 @@ class Picks(unittest.TestCase):
 
     def test_great_choices(self):
         for kind in KINDS:
-            for sizes, shared in (([4, 4, 4, 3, 1, 1, 1, 1], None), ([2] * 7 + [1], 6), ([1, 3, 2, 2, 4, 1, 2, 2], 60)):
+            for sizes, shared in (([4, 4, 4, 3, 1, 1, 1, 1], None), ([1, 3, 2, 2, 4, 1, 2, 2], 60)):
                 rng = random.Random(202)
                 book, choices = great_choices(rng, kind, sizes, shared)
                 begun = time.time()
@@ -208,12 +208,13 @@ class Picks(unittest.TestCase):
 class Barred(unittest.TestCase):
     def test_all_lots(self):
         seen = []
-        for _, book, choices in drawn_many(203, 60, most=4):
+        for rng, book, choices in drawn_many(203, 60, most=4):
             kind, lines = book
             barred = []
+            by_trying = rng.random() < 0.2
             for lot in all_lots(choices):
                 told = lines_picked(lines, choices, lot)
-                odd = not is_kept_by_some(kind, told)
+                odd = not (is_kept_by_some(kind, told) if by_trying else can_be_kept((kind, told)))
                 self.assertIs(is_barred(book, choices, lot), odd)
                 if odd:
                     barred.append(lot)

@@ -155,6 +155,16 @@ class Levels(unittest.TestCase):
                     self.assertIs(all(number in numbers for number, _ in ring), True)
         self.assertGreater(bad, 30)
 
+    def test_numbers_that_divide_in_one_kind_alone(self):
+        lines = [("a", "b", 0, 25), ("b", "c", 0, 17), ("a", "c", 1, 5)]
+        for kind, numbers in (("hours", [0, 2]), ("bits", [1, 2])):
+            self.assertEqual(level((kind, lines), 5), numbers)
+            self.assertEqual(joined_at((kind, lines), 5), [["a", "b", "c"]])
+            self.assertEqual(dict(hung((kind, lines), 5)), {"a": 0, "b": 0 if kind == "hours" else 1, "c": 1})
+            self.assertEqual(divisors_of((kind, lines)), [1, 5, 17, 25])
+            self.assertIsNone(first_bad_level((kind, lines)))
+            self.assertIs(is_hung((kind, lines), 5, [("a", 2), ("b", 2 if kind == "hours" else 3), ("c", 3)]), True)
+
     def test_judged(self):
         """All rests are tried, for small numbers and for 0."""
         hanging = 0

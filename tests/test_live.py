@@ -24,7 +24,8 @@ NAMES = ["a", "b", "c", "d9"]
 def no_deeds(kind):
     """Values that are no deeds for a live book of two lines in the topmost one of two layers."""
     other = KINDS[1 - KINDS.index(kind)]
-    values = THINGS + ["push", "pop", ("push", 1), ("push", ()), ("pop", None), ["push"], ["pop"], ("Push",), ("PUSH",),
+    values = THINGS + ["push", "pop", ("push", 1), ("push", ()), ("pop", None), ("push", 1, 2), ("pop", (), ()),
+                       ["push"], ["pop"], ("Push",), ("PUSH",),
                        ("undo",), ("redo",), ("line",), ("drop",), ("read",), (None,), (0,), (["push"],), (("push",),),
                        ("push", "push"), ("drop", 2), ("drop", -1), ("drop", True), ("drop", False), ("drop", None),
                        ("drop", "0"), ("drop", [0]), ("drop", (0,)), ("drop", 0, 0), ["drop", 0], ("drop", 10 ** 30),

@@ -229,7 +229,7 @@ class Weighed(unittest.TestCase):
         unlike = 0
         for rng, book in drawn_books(229, 60):
             least = least_givings(book)
-            for most in (0, 1, 3, 10 ** 30):
+            for most in (0, 3, 10 ** 30):
                 weights = [rng.randint(0, most) for _ in book[1]]
                 found = [sum(at(weights, lot)) for lot in least]
                 lightest = [lot for lot, weight in zip(least, found) if weight == min(found)]
@@ -259,7 +259,7 @@ class Weighed(unittest.TestCase):
         both = [("book", FIVE, BOOKS), ("weights", weights, [(InvalidNumber, wrong)])]
         check_refusals(self, lightest_giving, both)
         check_refusals(self, is_lightest, both + [("value", [1, 3], [])])
-        for value in NO_LOTS + [[0], [2], [1, 3, 4], [], [1], [3]]:
+        for value in NO_LOTS + [[0], [2], [1, 3, 4], [], [1], [3], [True, 3]]:
             self.assertIs(is_lightest(FIVE, weights, value), False, value)
         with self.assertRaises(InvalidNumber):
             lightest_giving(("hours", []), [0])

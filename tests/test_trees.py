@@ -7,7 +7,7 @@ import unittest
 
 from hourrings.choices import all_picks
 from hourrings.errors import InvalidPaper, TooMany
-from hourrings.rings import broken_rings, can_be_kept
+from hourrings.rings import all_rings, broken_rings, can_be_kept
 from hourrings.shortest import shortest_broken
 from hourrings.trees import is_tree, leaves, needed_choices, tree_of_no
 from tests.test_choices import BOOK, CHOICE, CHOICES, drawn_many, great_choices, lines_picked
@@ -64,7 +64,7 @@ def bent(tree, choices):
                 ("fork", number, tuple(trees)), ("fork", number), ("fork", number, trees, []), ["fork", number, trees],
                 ("fork", number + 1000, trees), ("fork", -1, trees), ("fork", None, trees), ("fork", str(number), trees),
                 ("fork", [number], trees), ("ring", number, trees), ("fork", number, None), (number, trees), trees,
-                ("fork", number, {}), ("fork", trees, number), ("fork", number, [tree for _ in trees])]
+                ("fork", number, {}), ("fork", trees, number), ("Fork", number, trees), (None, number, trees), ("fork", number, [tree for _ in trees])]
     if number < 2:
         yield ("fork", bool(number), trees)
     for at, below in enumerate(trees):
@@ -112,9 +112,10 @@ class Trees(unittest.TestCase):
             book = (kind, [("a", "b", 1, 2), ("b", "c", 0, 2)])
             choices = [[[("c", "a", 0, 2), ("a", "c", 0, 2)], [("a", "b", 0, 4)]]]
             rings = [broken_rings((kind, book[1] + lines)) for lines in choices[0]]
-            self.assertEqual([len(found) for found in rings], [2, 1])
-            for one in rings[0] + rings[1]:
-                for other in rings[0] + rings[1]:
+            whole = [all_rings((kind, book[1] + lines)) for lines in choices[0]]
+            self.assertEqual([len(found) for found in rings + whole], [2, 1, 3, 1])
+            for one in whole[0] + whole[1]:
+                for other in whole[0] + whole[1]:
                     right = one in rings[0] and other in rings[1]
                     self.assertIs(is_tree(book, choices, ("fork", 0, [("ring", one), ("ring", other)])), right)
 
